@@ -1,0 +1,1 @@
+"""Flowtells: a web told back from what its flows share, in any basis."""

@@ -1,0 +1,1 @@
+"""The tests of flowtells: run `python3 -m unittest` at the top of the repository."""
