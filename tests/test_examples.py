@@ -8,7 +8,7 @@ from pathlib import Path
 from flowtells.errors import NetError
 
 FOLDER = Path(__file__).parent / "examples"
-ORDER = ["checks", "papers", "webs"]
+ORDER = ["checks", "papers", "webs", "pieces", "turns", "tables", "trees", "flows"]
 
 # For each module its functions and classes with the names of their parameters.
 INTERFACE = {
@@ -23,11 +23,23 @@ INTERFACE = {
     },
     "papers": {"fixed": ["value"], "Paper": ["word", "parts"], "Denial": ["word", "parts"]},
     "webs": {"Web": ["places", "ties"], "rounds": ["web"], "bonds": ["web"], "bridges": ["web"]},
+    "pieces": {"pieces": ["web"], "parting_places": ["web"], "in_a_row": ["web"], "beside": ["web"]},
+    "turns": {"turned": ["web", "one", "other", "ties"]},
+    "tables": {"Table": ["rows"]},
+    "trees": {"first_tree": ["web"], "many_trees": ["web"]},
+    "flows": {
+        "share": ["one", "other"], "is_flow": ["web", "numbers"], "flow_basis": ["web"], "flow_table": ["web"],
+        "InRounds": ["pairs"], "in_rounds": ["web", "flow"], "shows_in_rounds": ["web", "flow", "value"],
+    },
 }
 METHODS = {
     "papers": {"Paper": {"__init__": ["self", "word", "parts"], "__eq__": None},
                "Denial": {"__init__": ["self", "word", "parts"], "__eq__": None}},
     "webs": {"Web": {"__init__": ["self", "places", "ties"], "__eq__": None, "__str__": ["self"], "read": ["text"]}},
+    "tables": {"Table": {"__init__": ["self", "rows"], "__eq__": None, "__str__": ["self"], "read": ["text"],
+                         "length": ["self", "point"], "share": ["self", "one", "other"],
+                         "changed": ["self", "points"]}},
+    "flows": {"InRounds": {"__init__": ["self", "pairs"]}},
 }
 
 
@@ -72,7 +84,7 @@ class Examples(unittest.TestCase):
                 with self.subTest(section=section, line=line):
                     self.assertEqual(answer(line, names), told)
             counts[section] = len(examples_of(section))
-        wanted = {"checks": 1, "papers": 1, "webs": 13}
+        wanted = {"checks": 1, "papers": 1, "webs": 13, "pieces": 5, "turns": 5, "tables": 9, "trees": 5, "flows": 10}
         self.assertEqual(counts, wanted)
 
 
