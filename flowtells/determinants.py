@@ -11,20 +11,41 @@ def determinant_of(rows):
         if at & 1:
             sign = -sign
         top, rest = left[at], left[:at] + left[at + 1:]
-        left = [less_column(row, top, before) for row in rest]
+        left = [cleared(row, top, 0, before) for row in rest]
         before = top[0]
     return sign * left[0][0] if left else 1
 
 
 def first_row(rows):
     """The index of the first row that does not begin with 0, None if there is none."""
-    for at, row in enumerate(rows):
-        if row[0] != 0:
+    return first_not_nought([row[0] for row in rows])
+
+
+def first_not_nought(numbers):
+    """The index of the first number that is not 0, None if there is none."""
+    for at, number in enumerate(numbers):
+        if number != 0:
             return at
     return None
 
 
-def less_column(row, top, before):
-    """What is left of a row when the top row has cleared its first column."""
+def cleared(row, top, lead, before):
+    """What is left of a row, without the column of this index, when the top row has cleared it."""
     # Bareiss: what comes is a determinant of some of the first rows, so the division leaves no rest.
-    return [(top[0] * row[at] - row[0] * top[at]) // before for at in range(1, len(row))]
+    return [(top[lead] * row[at] - row[lead] * top[at]) // before for at in range(len(row)) if at != lead]
+
+
+def beside_diagonal(rows):
+    """For n rows of n integers the n rows that, multiplied with them, have their determinant down the diagonal."""
+    spots = range(len(rows))
+    return [[signed(at + by, determinant_of(struck(rows, by, at))) for by in spots] for at in spots]
+
+
+def signed(times, number):
+    """A number when its sign has been changed so many times."""
+    return -number if times & 1 else number
+
+
+def struck(rows, at, by):
+    """The rows without the row at the one index and the column at the other one."""
+    return [row[:by] + row[by + 1:] for index, row in enumerate(rows) if index != at]

@@ -75,12 +75,22 @@ def longer_ways(web, tree, place, steps):
 
 def flow_table(web):
     """The table of what any two flows of the flow basis share."""
+    return Table(all_shared(few_flows(web)))
+
+
+def few_flows(web):
+    """The flow basis of a web, if it has at least one flow and no more than a table can have rows."""
     basis = flow_basis(web)
     if not basis:
         raise Misfit("flows")
     if len(basis) > MOST_ROWS:
         raise TooMany("rows", MOST_ROWS)
-    return Table([[share(one, other) for other in basis] for one in basis])
+    return basis
+
+
+def all_shared(basis):
+    """What any two lists of a basis share, row by row."""
+    return [[share(one, other) for other in basis] for one in basis]
 
 
 class InRounds(Paper):

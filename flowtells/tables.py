@@ -69,6 +69,12 @@ class Table:
         return Table([[shared(self.rows, one, other) for other in points] for one in points])
 
 
+def need_table(value, part):
+    """Refuse, by the name of a parameter, what is no table."""
+    if not isinstance(value, Table):
+        raise BadTable(part)
+
+
 def are_rows(value):
     """Whether a value is a list of n lists of n integers, n from 1 to 5."""
     return isinstance(value, (list, tuple)) and 1 <= len(value) <= MOST_ROWS and are_points(value, len(value))

@@ -4,6 +4,8 @@ import unittest
 from fractions import Fraction
 
 from flowtells.errors import NetError
+from flowtells.tables import Table
+from flowtells.webs import Web
 
 GREAT = 10 ** 39 + 7
 
@@ -50,6 +52,19 @@ def not_lists():
 def not_webs():
     """Values that are no webs, new ones at each call."""
     return not_lists() + [[], (), (1, ()), [3, [[0, 1], [1, 2]]], "1 :", "3 : 0 1 1 2 2 0", [[[[[None]]]]]]
+
+
+class LikeTable:
+    """An object with the attributes of a table."""
+
+    rows, size, determinant = ((2, -1), (-1, 2)), 2, 3
+
+
+def not_tables():
+    """Values that are no tables, new ones at each call."""
+    return not_lists() + [
+        [], (), [[1]], ((1,),), [[2, -1], [-1, 2]], ((2, -1), (-1, 2)), "1 : 7", "2 : 2 -1 -1 2", LikeTable(), Table,
+        Web(1, [(0, 0)])]
 
 
 class Case(unittest.TestCase):
