@@ -49,3 +49,39 @@ def signed(times, number):
 def struck(rows, at, by):
     """The rows without the row at the one index and the column at the other one."""
     return [row[:by] + row[by + 1:] for index, row in enumerate(rows) if index != at]
+
+
+def some_determinants(rows, before):
+    """The determinants, but for their signs, of any n of some rows of n integers; some that are 0 are left out.
+
+    The rows have been cleared by another one that began with before, or stand as they are, before being 1.
+    """
+    if not rows or len(rows[0]) == 1:
+        return [row[0] for row in rows if row[0] != 0]
+    found = []
+    for at, top in enumerate(rows):
+        lead = first_not_nought(top)
+        if lead is not None:
+            found.extend(some_determinants([cleared(row, top, lead, before) for row in rows[at + 1:]], top[lead]))
+    return found
+
+
+def seen_at(rows, others):
+    """What rows are at independent points, as many as there are, at which all of these others are 0.
+
+    Each row is told by one integer for each of these points; which points these are the others tell alone.
+    """
+    left = list(others)
+    while left:
+        top, *rest = left
+        left = rest
+        lead = first_not_nought(top)
+        if lead is not None:
+            rows = [cleared(row, top, lead, 1) for row in rows]
+            left = [cleared(row, top, lead, 1) for row in rest]
+    return rows
+
+
+def leave_noughts_alone(rows):
+    """Whether at noughts alone all of these rows are 0."""
+    return not seen_at(rows[:1], rows)[0]

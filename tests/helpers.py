@@ -4,6 +4,7 @@ import unittest
 from fractions import Fraction
 
 from flowtells.errors import NetError
+from flowtells.lots import Lot
 from flowtells.tables import Table
 from flowtells.webs import Web
 
@@ -65,6 +66,17 @@ def not_tables():
     return not_lists() + [
         [], (), [[1]], ((1,),), [[2, -1], [-1, 2]], ((2, -1), (-1, 2)), "1 : 7", "2 : 2 -1 -1 2", LikeTable(), Table,
         Web(1, [(0, 0)])]
+
+
+class LikeLot:
+    """An object with the attributes of a lot."""
+
+    size, rows, times, table = 1, ((1,),), (1,), Table([[1]])
+
+
+def not_lots():
+    """Values that are no lots, new ones at each call."""
+    return not_tables() + [[[[1]], [1]], ((((1,),), (1,))), Table([[1]]), LikeLot(), Lot]
 
 
 class Case(unittest.TestCase):

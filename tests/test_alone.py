@@ -119,8 +119,9 @@ class Numbers(Case):
 
     def test_the_length_of_a_class(self):
         for table in searched(some_tables(79, 20)):
+            found = numbers(table)
             for kind, (length, _) in least_by_search(table.rows).items():
-                meets = [Fraction(top, bottom) for sort, top, bottom in numbers(table) if shared(sort, kind) % 2]
+                meets = [Fraction(top, bottom) for sort, top, bottom in found if shared(sort, kind) % 2]
                 self.assertEqual(sum(meets), length)
 
     def test_a_changed_table(self):

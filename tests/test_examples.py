@@ -10,7 +10,7 @@ from flowtells.errors import NetError
 FOLDER = Path(__file__).parent / "examples"
 ORDER = [
     "checks", "papers", "webs", "pieces", "turns", "tables", "trees", "flows", "pulls", "shortened", "classes", "rounds",
-    "rows"]
+    "rows", "lots", "bars", "check_lots", "unwebbed", "check_unwebbed"]
 
 # For each module its functions and classes with the names of their parameters.
 INTERFACE = {
@@ -38,6 +38,11 @@ INTERFACE = {
     "classes": {"least": ["table"]},
     "rounds": {"alone": ["table"], "numbers": ["table"]},
     "rows": {"small_rows": ["table"]},
+    "lots": {"Lot": ["rows", "times"], "lot_of": ["web"]},
+    "bars": {"LotOf": ["lot"], "NoLot": ["bar"], "lot": ["table"]},
+    "check_lots": {"shows_lot": ["table", "value"]},
+    "unwebbed": {"NoWeb": ["kept", "idle", "names"], "unwebbed": ["lot"]},
+    "check_unwebbed": {"shows_unwebbed": ["lot", "value"]},
 }
 METHODS = {
     "papers": {"Paper": {"__init__": ["self", "word", "parts"], "__eq__": None},
@@ -48,6 +53,9 @@ METHODS = {
                          "changed": ["self", "points"]}},
     "flows": {"InRounds": {"__init__": ["self", "pairs"]}},
     "shortened": {"Shortened": {"__init__": ["self", "table", "points"]}},
+    "lots": {"Lot": {"__init__": ["self", "rows", "times"], "__eq__": None}},
+    "bars": {"LotOf": {"__init__": ["self", "lot"]}, "NoLot": {"__init__": ["self", "bar"]}},
+    "unwebbed": {"NoWeb": {"__init__": ["self", "kept", "idle", "names"]}},
 }
 
 
@@ -92,7 +100,8 @@ class Examples(unittest.TestCase):
                 with self.subTest(section=section, line=line):
                     self.assertEqual(answer(line, names), told)
             counts[section] = len(examples_of(section))
-        self.assertEqual([counts[section] for section in ORDER], [1, 1, 13, 5, 5, 9, 5, 10, 6, 3, 7, 9, 6])
+        self.assertEqual(
+            [counts[section] for section in ORDER], [1, 1, 13, 5, 5, 9, 5, 10, 6, 3, 7, 9, 6, 6, 1, 4, 5, 6])
 
 
 class Interface(unittest.TestCase):
