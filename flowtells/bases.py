@@ -40,8 +40,8 @@ def layers_of(rows):
 def short_basis(rows):
     """The rows of a table changed by a basis of short points, and these points.
 
-    As Lenstra, Lenstra and Lovasz do it: in the layer at each index the first two points differ in length by a small
-    factor only, if the second is the shorter one.
+    As Lenstra, Lenstra and Lovasz do it: in each layer the second point is moved ahead of the first one only
+    if its length is less than three quarters of it, so that few steps are taken.
     """
     rows, points = [list(row) for row in rows], unit_points(len(rows))
     at = 1

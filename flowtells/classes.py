@@ -33,7 +33,8 @@ def least_behind(layers, kind, end):
     at = len(kind) - len(end) - 1
     if at < 0:
         return shared(layers[0], end, end), [end]
-    layer, scale = layers[at], layers[at - 1][0][0] if at > 0 else 1
+    layer = layers[at]
+    scale = layers[at - 1][0][0] if at > 0 else 1
     below = last_below(layer, kind[at], end)
     length, found = None, []
     # Away from where the points are shortest they grow, so each way ends at the first that is too long.
