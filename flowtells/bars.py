@@ -31,7 +31,7 @@ def lot(table):
     for sort, top, _ in found:
         if top < 0 or sort not in rows:
             return NoLot(bar_by(classes, sort, top))
-    # Now these rows, so many times, give each class the length that it has, and no other table has these lengths.
+    # Now these rows, so many times, give each least point the length that it has, and these lengths tell the table.
     return LotOf(Lot([rows[sort] for sort, _, _ in found], [top // bottom for _, top, bottom in found]))
 
 
