@@ -1,6 +1,6 @@
-"""Bases in which the points of a table are short."""
+"""Bases: short ones of the points of a table, and what points are by those of a basis."""
 
-from flowtells.determinants import cleared
+from flowtells.determinants import beside_diagonal, cleared, determinant_of, first_not_nought
 
 
 def unit_points(size):
@@ -21,6 +21,32 @@ def lessened(numbers, others, times):
 def nearest(top, bottom):
     """An integer that is nearest to top / bottom, bottom being above 0."""
     return (2 * top + bottom) // (2 * bottom)
+
+
+def first_independent(points):
+    """Of these points each one that is no sum, by fractions, of those ahead of it."""
+    chosen, left, before = [], [(point, point) for point in points], 1
+    while left:
+        (point, top), *rest = left
+        lead = first_not_nought(top)
+        left = rest
+        if lead is not None:
+            chosen.append(point)
+            left = [(other, cleared(row, top, lead, before)) for other, row in rest]
+            before = top[lead]
+    return chosen
+
+
+def by_basis(basis, points):
+    """For each point how often each one of a basis, whose determinant is 1 or -1, makes it up."""
+    worth, turned_back = determinant_of(basis), beside_diagonal(basis)
+    columns = list(zip(*turned_back))
+    return [tuple([worth * sum_of_products(column, point) for column in columns]) for point in points]
+
+
+def sum_of_products(one, other):
+    """Two lists of as many integers, multiplied number by number and added up."""
+    return sum([number * by for number, by in zip(one, other)])
 
 
 def layers_of(rows):

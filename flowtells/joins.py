@@ -18,3 +18,8 @@ def names_of(many, pairs):
     for one, other in pairs:
         names = joined(names, one, other)
     return names
+
+
+def names_in(many, groups):
+    """The names of so many things when all of each group, which is not empty, are joined."""
+    return names_of(many, [(group[0], thing) for group in groups for thing in group])

@@ -1,6 +1,6 @@
 """Pieces of a web, parting places, ties in a row and ties beside one another."""
 
-from flowtells.joins import names_of
+from flowtells.joins import names_in
 from flowtells.webs import bridges, need_web, rounds
 
 
@@ -13,8 +13,7 @@ def pieces(web):
 def piece_names(web):
     """For each tie the first tie of its piece."""
     # Pieces need no more than this: ties that share rounds with one tie share a round.
-    pairs = [(circle[0], tie) for circle in rounds(web) for tie in circle]
-    return names_of(len(web.ties), pairs)
+    return names_in(len(web.ties), rounds(web))
 
 
 def together(marks):

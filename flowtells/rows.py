@@ -1,8 +1,9 @@
 """Small rows of a table: what the ties of a web have in its flows, told from least points."""
 
+from flowtells.bases import first_independent, sum_of_products
 from flowtells.classes import least
 from flowtells.contraries import is_told_way, told_way
-from flowtells.determinants import beside_diagonal, cleared, determinant_of, first_not_nought
+from flowtells.determinants import beside_diagonal, determinant_of
 
 
 def small_rows(table):
@@ -21,20 +22,6 @@ def small_at(classes):
     return tuple(sorted([row for row in found if is_small(row, points)]))
 
 
-def first_independent(points):
-    """Of these points each one that is no sum, by fractions, of those ahead of it."""
-    chosen, left, before = [], [(point, point) for point in points], 1
-    while left:
-        (point, top), *rest = left
-        lead = first_not_nought(top)
-        left = rest
-        if lead is not None:
-            chosen.append(point)
-            left = [(other, cleared(row, top, lead, before)) for other, row in rest]
-            before = top[lead]
-    return chosen
-
-
 def all_signs(size):
     """All tuples of so many integers, each 0, 1 or -1."""
     found = [()]
@@ -48,11 +35,6 @@ def rows_with(points, values):
     worth, turned_back = determinant_of(points), beside_diagonal(points)
     found = [[sum_of_products(by, some) for by in turned_back] for some in values]
     return [[number // worth for number in row] for row in found if not any([number % worth for number in row])]
-
-
-def sum_of_products(row, point):
-    """What a row is at a point."""
-    return sum([number * by for number, by in zip(row, point)])
 
 
 def is_small(row, points):

@@ -4,6 +4,7 @@ from flowtells.bases import lessened
 from flowtells.contraries import told_way
 from flowtells.determinants import leave_noughts_alone, seen_at
 from flowtells.heights import FIVE, SIX, first_heights, heights_with
+from flowtells.lot_webs import web_of
 from flowtells.lots import need_lot
 from flowtells.papers import Denial
 
@@ -21,11 +22,14 @@ class NoWeb(Denial):
 def unwebbed(lot):
     """The NoWeb of a lot that is no web's, None for a web's."""
     need_lot(lot, "lot")
-    # Tutte: in a lot that is no web's there is K5, at points that some four make up, or K33, at points that five do.
+    return shown_in(lot) if web_of(lot) is None else None
+
+
+def shown_in(lot):
+    """The NoWeb of a lot that is known to be no web's."""
+    # Tutte: in such a lot there is K5, at points that some four make up, or K33, at points that some five do.
     if lot.size == 4:
         return found_in(lot.rows, [], FIVE)
-    if lot.size < 4:
-        return None
     for number in range(len(lot.rows)):
         found = found_in(lot.rows, [number], FIVE)
         if found is not None:

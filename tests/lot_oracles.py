@@ -172,16 +172,15 @@ def shows_it(lot, kept, idle, names):
 
 
 def points_at(size, rows):
-    """Independent points at which these rows are 0, as many as there are, by fractions made whole."""
-    if rank(rows + one_of(size)) == rank(rows):
-        return []
-    found = []
-    for point in product((0, 1, -1, 2, -2), repeat=size):
-        if not any(shared(row, point) for row in rows) and rank(found + [point]) > len(found):
-            found.append(point)
-            if len(found) == size - rank(rows):
-                return found
-    raise ValueError("the points are too far out")
+    """Points of which all points are made up at which these rows are 0: of the others one is left at each row, by Euclid."""
+    points = one_of(size)
+    for row in rows:
+        while len(other := [point for point in points if shared(row, point)]) > 1:
+            low, high = sorted(other, key=lambda point: abs(shared(row, point)))[:2]
+            times = shared(row, high) // shared(row, low)
+            points = [[a - times * b for a, b in zip(point, low)] if point == high else point for point in points]
+        points = [point for point in points if not shared(row, point)]
+    return points
 
 
 def product_of(one, other):

@@ -54,6 +54,32 @@ def basis_of(source, size, most):
     return points
 
 
+def inverse(points):
+    """The rows that, multiplied with these points, are the units; the points are a basis."""
+    size = len(points)
+    left = [list(point) + unit for point, unit in zip(points, one_of(size))]
+    for at in range(size):
+        while any(row[at] for row in left[at + 1:]):
+            low = min((row for row in left[at:] if row[at]), key=lambda row: abs(row[at]))
+            left[left.index(low)], left[at] = left[at], low
+            for by in range(at + 1, size):
+                times = left[by][at] // low[at]
+                left[by] = [number - times * other for number, other in zip(left[by], low)]
+        if left[at][at] < 0:
+            left[at] = [-number for number in left[at]]
+    for at in reversed(range(size)):
+        for by in range(at):
+            left[by] = [number - left[by][at] * other for number, other in zip(left[by], left[at])]
+    return [row[size:] for row in left]
+
+
+def bar_changed(bar, points):
+    """The bar of a table changed by points, for the bar of the table."""
+    # What is asked of the old rows is asked of the new ones if the bar is told by the points turned back.
+    turned = [list(row) for row in zip(*inverse(points))]
+    return [[meets(bar, one, other) for other in turned] for one in turned]
+
+
 def star_of(size):
     """The table of D, of so many rows from 4 on: one point shares 1 with three others, in a row with the rest."""
     rows = [[2 * number for number in row] for row in one_of(size)]

@@ -5,9 +5,10 @@ import unittest
 from fractions import Fraction
 from math import floor
 
-from flowtells.bases import layers_of, lessened, made_of, nearest, short_basis, unit_points
+from flowtells.bases import (
+    by_basis, first_independent, layers_of, lessened, made_of, nearest, short_basis, unit_points)
 from flowtells.classes import last_below
-from flowtells.rows import first_independent, rows_with
+from flowtells.rows import rows_with
 from tests.helpers import GREAT, Case
 from tests.oracles import determinant
 from tests.table_oracles import HAND_TABLES, changed, far_tables, some_tables

@@ -14,7 +14,7 @@ from flowtells.tables import Table
 from tests.helpers import GREAT, Case, LikeLot, not_integers, not_lists, not_lots, not_tables
 from tests.lot_oracles import bars_it, product_of, random_lots, square, star_tables
 from tests.oracles import ring
-from tests.table_oracles import HAND_TABLES, STARS, basis_of, changed, one_of, random_table, some_tables
+from tests.table_oracles import HAND_TABLES, STARS, bar_changed, basis_of, changed, one_of, random_table, some_tables
 
 SOME = Lot([[1, 0], [0, 1], [1, -1]], [1, 3, 2])
 MINUS = [[-number for number in row] for row in one_of(4)]
@@ -32,25 +32,6 @@ class BentBar(NoLot):
 def with_corner(corner):
     """The bar of BESIDE by minus ones, and this number for the square of its small row."""
     return [row + [0] for row in MINUS] + [[0, 0, 0, 0, corner]]
-
-
-def inverse(points):
-    """The rows that, multiplied with these points, are the units; the points are a basis."""
-    size = len(points)
-    left = [list(point) + unit for point, unit in zip(points, one_of(size))]
-    for at in range(size):
-        while any(row[at] for row in left[at + 1:]):
-            low = min((row for row in left[at:] if row[at]), key=lambda row: abs(row[at]))
-            left[left.index(low)], left[at] = left[at], low
-            for by in range(at + 1, size):
-                times = left[by][at] // low[at]
-                left[by] = [number - times * other for number, other in zip(left[by], low)]
-        if left[at][at] < 0:
-            left[at] = [-number for number in left[at]]
-    for at in reversed(range(size)):
-        for by in range(at):
-            left[by] = [number - left[by][at] * other for number, other in zip(left[by], left[at])]
-    return [row[size:] for row in left]
 
 
 class Lots(Case):
@@ -181,17 +162,11 @@ class Bars(Case):
 
     def test_changed_with_the_table(self):
         source = random.Random(159)
-        for table in STARS + [BESIDE]:
+        for table, bar in ((STARS[0], MINUS), (BESIDE, with_corner(0))):
             points = basis_of(source, table.size, 6)
-            far = Table(changed(table.rows, points))
-            # What is asked of the old rows is asked of the new ones if the bar is told by the points turned back.
-            turned = [[row[at] for row in inverse(points)] for at in range(table.size)]
-            bar = MINUS if table.size == 4 else with_corner(0)
-            if table in (STARS[0], BESIDE):
-                new = [[sum(one[at] * bar[at][by] * other[by] for at in range(table.size) for by in range(table.size))
-                        for other in turned] for one in turned]
-                self.asks(True, far, new)
-                self.asks(False, far, [[-number for number in row] for row in new])
+            far, new = Table(changed(table.rows, points)), bar_changed(bar, points)
+            self.asks(True, far, new)
+            self.asks(False, far, [[-number for number in row] for row in new])
 
 
 class Values(Case):

@@ -171,11 +171,12 @@ class Code(unittest.TestCase):
                     self.assertNotIsInstance(node.value, (float, complex, bytes), path)
                     self.assertFalse(isinstance(node.value, str) and "%" in node.value, path)
 
-    def test_behind_a_star_stands_a_name(self):
+    def test_behind_a_star_stands_a_name_or_an_attribute_of_one(self):
         for path, tree in trees():
             for node in ast.walk(tree):
                 if isinstance(node, ast.Starred):
-                    self.assertIsInstance(node.value, ast.Name, (path, node.lineno))
+                    named = node.value.value if isinstance(node.value, ast.Attribute) else node.value
+                    self.assertIsInstance(named, ast.Name, (path, node.lineno))
 
     def test_is_stands_with_none_or_a_class(self):
         for path, tree in trees():
