@@ -10,16 +10,16 @@ from flowtells.unwebbed import NoWeb
 def shows_unwebbed(lot, value):
     """Whether a value is a NoWeb of rows and names that show K5 or K33 in the lot."""
     need_lot(lot, "lot")
-    if type(value) is not NoWeb or not are_numbers(value.kept, lot) or not are_numbers(value.idle, lot):
+    if type(value) is not NoWeb or not are_numbers(value.kept, len(lot.rows)):
         return False
-    if any([number in value.kept for number in value.idle]):
+    if not are_numbers(value.idle, len(lot.rows)) or any([number in value.kept for number in value.idle]):
         return False
     return are_names(value.names, len(value.kept)) and stand_for(lot.rows, value.kept, value.idle, value.names)
 
 
-def are_numbers(value, lot):
-    """Whether what a paper keeps is a list of numbers of rows of a lot, ascending."""
-    if not are_integers(value) or any([number < 0 or number >= len(lot.rows) for number in value]):
+def are_numbers(value, many):
+    """Whether what a paper keeps is a list of numbers of so many things, ascending."""
+    if not are_integers(value) or any([number < 0 or number >= many for number in value]):
         return False
     return list(value) == sorted(set(value))
 

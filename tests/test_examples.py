@@ -11,7 +11,7 @@ FOLDER = Path(__file__).parent / "examples"
 ORDER = [
     "checks", "papers", "webs", "pieces", "turns", "tables", "trees", "flows", "pulls", "shortened", "classes", "rounds",
     "rows", "lots", "bars", "check_lots", "unwebbed", "check_unwebbed", "bonds", "grown", "check_grown", "told",
-    "check_told"]
+    "check_told", "alike", "same", "check_alike", "plane", "check_plane"]
 
 # For each module its functions and classes with the names of their parameters.
 INTERFACE = {
@@ -49,6 +49,11 @@ INTERFACE = {
     "check_grown": {"shows_grown": ["lot", "value"]},
     "told": {"told": ["table"]},
     "check_told": {"shows_told": ["table", "value"]},
+    "alike": {"Alike": ["ties"], "Unlike": [], "alike": ["one", "other"]},
+    "same": {"Same": ["points"], "Unsame": [], "same": ["one", "other"]},
+    "check_alike": {"shows_alike": ["one", "other", "value"], "shows_same": ["one", "other", "value"]},
+    "plane": {"Plane": ["sides", "ties"], "NotPlane": ["struck", "drawn", "names"], "plane": ["web"]},
+    "check_plane": {"shows_plane": ["web", "value"]},
 }
 METHODS = {
     "papers": {"Paper": {"__init__": ["self", "word", "parts"], "__eq__": None},
@@ -63,6 +68,10 @@ METHODS = {
     "bars": {"LotOf": {"__init__": ["self", "lot"]}, "NoLot": {"__init__": ["self", "bar"]}},
     "unwebbed": {"NoWeb": {"__init__": ["self", "kept", "idle", "names"]}},
     "grown": {"Grown": {"__init__": ["self", "web", "times", "flows"]}},
+    "alike": {"Alike": {"__init__": ["self", "ties"]}, "Unlike": {"__init__": ["self"]}},
+    "same": {"Same": {"__init__": ["self", "points"]}, "Unsame": {"__init__": ["self"]}},
+    "plane": {"Plane": {"__init__": ["self", "sides", "ties"]},
+              "NotPlane": {"__init__": ["self", "struck", "drawn", "names"]}},
 }
 
 
@@ -109,7 +118,7 @@ class Examples(unittest.TestCase):
             counts[section] = len(examples_of(section))
         self.assertEqual(
             [counts[section] for section in ORDER],
-            [1, 1, 13, 5, 5, 9, 5, 10, 6, 3, 7, 9, 6, 6, 1, 4, 5, 6, 4, 5, 4, 8, 6])
+            [1, 1, 13, 5, 5, 9, 5, 10, 6, 3, 7, 9, 6, 6, 1, 4, 5, 6, 4, 5, 4, 8, 6, 7, 5, 3, 10, 5])
 
 
 class Interface(unittest.TestCase):
