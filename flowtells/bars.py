@@ -1,10 +1,13 @@
 """Whether a table is a lot's: its lot, or a bar."""
 
-from flowtells.classes import kind_of, least
+from flowtells.bases import made_of, many_bits
+from flowtells.classes import least_ends
 from flowtells.lots import Lot, sum_of_squares
 from flowtells.papers import Denial, Paper
-from flowtells.rounds import all_numbers, meet_oddly
-from flowtells.rows import small_at
+from flowtells.rounds import all_tops
+from flowtells.rows import row_by, small_at
+from flowtells.short_bases import ShortBasis
+from flowtells.tables import need_table
 
 
 class LotOf(Paper):
@@ -25,20 +28,31 @@ class NoLot(Denial):
 
 def lot(table):
     """The LotOf of the lot whose table it is, or the NoLot of a bar."""
-    classes = least(table)
-    rows = {kind_of(row): row for row in small_at(classes)}
-    found = [(sort, top, bottom) for sort, top, bottom in all_numbers(classes) if top != 0]
-    for sort, top, _ in found:
-        if top < 0 or sort not in rows:
-            return NoLot(bar_by(classes, sort, top))
+    need_table(table, "table")
+    short = ShortBasis(table.rows)
+    classes = least_ends(short.left)
+    tops = list(enumerate(all_tops([length for length, _ in classes]), start=1))
+    below = [number for number, top in tops if top < 0]
+    if below:
+        return NoLot(bar_by(short, classes, below[0], 1))
+    rows, counted = {bits_of(row): row for row in small_at(classes)}, [(number, top) for number, top in tops if top > 0]
+    for number, _ in counted:
+        if number not in rows:
+            return NoLot(bar_by(short, classes, number, -1))
     # Now these rows, so many times, give each least point the length that it has, and these lengths tell the table.
-    return LotOf(Lot([rows[sort] for sort, _, _ in found], [top // bottom for _, top, bottom in found]))
+    bottom = 1 << (table.size - 1)
+    return LotOf(Lot([row_by(short, rows[number]) for number, _ in counted], [top // bottom for _, top in counted]))
 
 
-def bar_by(classes, sort, top):
-    """The bar that tells of a sort that its number is below 0, or above 0 where no small row is odd as it tells."""
+def bar_by(short, classes, number, sign):
+    """The bar that tells of a sort that its number is below 0, or, contrary, above 0 where no small row is odd so."""
     # Multiplied with the table, the squares of one least point of each class, with these signs, give the number of
     # the sort, but for a factor. With a small row they do so, too: 1 for the one that is odd as the sort tells, else 0.
-    points = [ends[0] for _, _, ends in classes]
-    signs = [1 if meet_oddly(sort, kind) else -1 for kind, _, _ in classes]
-    return sum_of_squares(points, [-sign for sign in signs] if top > 0 else signs)
+    points = [made_of(short.points, ends[0]) for _, ends in classes]
+    signs = [sign if many_bits(number & kind) & 1 else -sign for kind in range(1, len(classes) + 1)]
+    return sum_of_squares(points, signs)
+
+
+def bits_of(row):
+    """The number whose bits tell where a row is odd."""
+    return sum([(number & 1) << at for at, number in enumerate(row)])

@@ -1,6 +1,6 @@
-"""Bases: short ones of the points of a table, and what points are by those of a basis."""
+"""Lists of integers: sums of them, what they share, and what they are by some of them that are independent."""
 
-from flowtells.determinants import beside_diagonal, cleared, determinant_of, first_not_nought
+from flowtells.determinants import first_not_nought
 
 
 def unit_points(size):
@@ -10,7 +10,12 @@ def unit_points(size):
 
 def made_of(points, times):
     """The sum of points, each so many times."""
-    return tuple([sum([by * number for by, number in zip(times, numbers)]) for numbers in zip(*points)])
+    return tuple([sum_of_products(times, numbers) for numbers in zip(*points)])
+
+
+def sum_of_products(one, other):
+    """Two lists of as many integers, multiplied number by number and added up."""
+    return sum([number * by for number, by in zip(one, other)])
 
 
 def lessened(numbers, others, times):
@@ -23,78 +28,45 @@ def nearest(top, bottom):
     return (2 * top + bottom) // (2 * bottom)
 
 
-def first_independent(points):
-    """Of these points each one that is no sum, by fractions, of those ahead of it."""
-    chosen, left, before = [], [(point, point) for point in points], 1
-    while left:
-        (point, top), *rest = left
-        lead = first_not_nought(top)
-        left = rest
+def shares_of(rows, points):
+    """What any two points share by the rows of a table."""
+    weighed = [[sum_of_products(row, point) for row in rows] for point in points]
+    return [[sum_of_products(point, by) for by in weighed] for point in points]
+
+
+def by_first_basis(rows):
+    """The numbers of the first independent rows, a number, and all rows as sums of these, told that number of times."""
+    numbers, leads, left, worth = [], [], rows, 1
+    for number in range(len(rows)):
+        top = left[number]
+        lead = first_not_nought([0 if at in leads else by for at, by in enumerate(top)])
         if lead is not None:
-            chosen.append(point)
-            left = [(other, cleared(row, top, lead, before)) for other, row in rest]
-            before = top[lead]
-    return chosen
+            left = [pivoted(row, top, lead, worth) for row in left]
+            numbers.append(number)
+            leads.append(lead)
+            worth = top[lead]
+    return numbers, worth, [tuple([row[lead] for lead in leads]) for row in left]
 
 
-def by_basis(basis, points):
-    """For each point how often each one of a basis, whose determinant is 1 or -1, makes it up."""
-    worth, turned_back = determinant_of(basis), beside_diagonal(basis)
-    columns = list(zip(*turned_back))
-    return [tuple([worth * sum_of_products(column, point) for column in columns]) for point in points]
+def pivoted(row, top, lead, before):
+    """A row when the top row has become the one that alone has something at the index lead."""
+    # As with Bareiss what comes is a determinant, so the division leaves no rest.
+    return [number if at == lead else (top[lead] * number - row[lead] * top[at]) // before
+            for at, number in enumerate(row)]
 
 
-def sum_of_products(one, other):
-    """Two lists of as many integers, multiplied number by number and added up."""
-    return sum([number * by for number, by in zip(one, other)])
+def small_sum(numbers, lists):
+    """Numbers and these lists, each added or taken off, such that 0, 1 and -1 alone come; None if they never do."""
+    if not lists:
+        return numbers if -1 <= min(numbers) and max(numbers) <= 1 else None
+    first, *rest = lists
+    for times in (1, -1):
+        found = small_sum(lessened(numbers, first, times), rest)
+        if found is not None:
+            return found
+    return None
 
 
-def layers_of(rows):
-    """The rows of a table, then what is left of them when its first point is taken out, the first two, and so on.
-
-    A layer tells, for points of which the last integers alone are known, what they share when, by fractions, the
-    first ones are chosen such that they are shortest; all times the first integer of the layer ahead.
-    """
-    layers, before = [rows], 1
-    while len(layers[-1]) > 1:
-        top, *rest = layers[-1]
-        layers.append([cleared(row, top, 0, before) for row in rest])
-        before = top[0]
-    return layers
-
-
-def short_basis(rows):
-    """The rows of a table changed by a basis of short points, and these points.
-
-    As Lenstra, Lenstra and Lovasz do it: in each layer the second point is moved ahead of the first one only
-    if its length is less than three quarters of it, so that few steps are taken.
-    """
-    rows, points = [list(row) for row in rows], unit_points(len(rows))
-    at = 1
-    while at < len(rows):
-        for by in reversed(range(at)):
-            layer = layers_of([row[:at + 1] for row in rows[:at + 1]])[by]
-            take_off(rows, points, at, by, nearest(layer[0][at - by], layer[0][0]))
-        layer = layers_of([row[:at + 1] for row in rows[:at + 1]])[at - 1]
-        if 4 * layer[1][1] < 3 * layer[0][0]:
-            swap(rows, points, at)
-            at = max(1, at - 1)
-        else:
-            at += 1
-    return rows, points
-
-
-def take_off(rows, points, at, by, times):
-    """Take from the point at one index so many times the one at another index, in the table's rows, too."""
-    points[at] = lessened(points[at], points[by], times)
-    rows[at] = lessened(rows[at], rows[by], times)
-    for row in rows:
-        row[at] -= times * row[by]
-
-
-def swap(rows, points, at):
-    """Let the point at an index and the one ahead of it change places, in the table's rows, too."""
-    points[at - 1], points[at] = points[at], points[at - 1]
-    rows[at - 1], rows[at] = rows[at], rows[at - 1]
-    for row in rows:
-        row[at - 1], row[at] = row[at], row[at - 1]
+def many_bits(number):
+    """How many bits of a number are 1."""
+    return f"{number:b}".count("1")

@@ -1,6 +1,6 @@
 """Relations of a lot: how its rows add up to noughts."""
 
-from flowtells.bases import by_basis, first_independent, lessened
+from flowtells.bases import by_first_basis, many_bits, small_sum
 from flowtells.contraries import told_way
 from flowtells.lots import need_lot
 
@@ -19,14 +19,14 @@ def relations(lot):
 
 def relations_by_basis(rows):
     """For the number of each row that is not one of the first independent ones, how these make it up: a relation."""
-    basis = first_independent(rows)
-    numbers, found = [rows.index(row) for row in basis], {}
-    for number, times in enumerate(by_basis(basis, rows)):
+    numbers, worth, told = by_first_basis(rows)
+    found = {}
+    for number, times in enumerate(told):
         if number not in numbers:
             relation = [0] * len(rows)
             relation[number] = -1
             for at, many in zip(numbers, times):
-                relation[at] = many
+                relation[at] = worth * many
             found[number] = relation
     return found
 
@@ -49,20 +49,3 @@ def least_uses(uses, most):
         if many <= most and not any([part & used == part for half, part in found if 2 * half <= many]):
             found.append((many, used))
     return [used for _, used in found]
-
-
-def many_bits(number):
-    """How many bits of a number are 1."""
-    return f"{number:b}".count("1")
-
-
-def small_sum(numbers, lists):
-    """Numbers and these lists, each added or taken off, such that 0, 1 and -1 alone come; None if they never do."""
-    if not lists:
-        return numbers if -1 <= min(numbers) and max(numbers) <= 1 else None
-    first, *rest = lists
-    for times in (1, -1):
-        found = small_sum(lessened(numbers, first, times), rest)
-        if found is not None:
-            return found
-    return None

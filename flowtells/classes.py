@@ -1,19 +1,22 @@
 """Classes of points, and the least points of each."""
 
-from flowtells.bases import layers_of, made_of, short_basis
-from flowtells.tables import need_table, shared
+from math import isqrt
+
+from flowtells.bases import nearest, sum_of_products
+from flowtells.short_bases import ShortBasis
+from flowtells.tables import need_table
 
 
 def least(table):
     """For each class the class, the length of its least points, and all of these."""
     need_table(table, "table")
-    rows, points = short_basis(table.rows)
-    layers = layers_of(rows)
+    short = ShortBasis(table.rows)
+    columns = list(zip(*short.points))
     found = []
-    for kind in kinds_of(table.size):
-        length, ends = least_behind(layers, kind, ())
-        told = sorted([made_of(points, end) for end in ends])
-        found.append((kind_of(told[0]), length, tuple(told)))
+    for length, ends in least_ends(short.left):
+        half = [tuple([sum_of_products(column, end) for column in columns]) for end in ends]
+        whole = half + [tuple([-number for number in point]) for point in half]
+        found.append((kind_of(half[0]), length, tuple(sorted(whole))))
     return tuple(sorted(found))
 
 
@@ -28,29 +31,56 @@ def kind_of(numbers):
     return tuple([number & 1 for number in numbers])
 
 
-def least_behind(layers, kind, end):
-    """Of the points of a class of which the last integers are known, the least length, and those that have it."""
-    at = len(kind) - len(end) - 1
-    if at < 0:
-        return shared(layers[0], end, end), [end]
-    layer = layers[at]
-    scale = layers[at - 1][0][0] if at > 0 else 1
-    below = last_below(layer, kind[at], end)
-    length, found = None, []
-    # Away from where the points are shortest they grow, so each way ends at the first that is too long.
-    for number, step in ((below, -2), (below + 2, 2)):
-        longer = (number,) + end
-        while length is None or shared(layer, longer, longer) <= length * scale:
-            least_here, points = least_behind(layers, kind, longer)
-            if length is None or least_here < length:
-                length, found = least_here, []
-            if least_here == length:
-                found.extend(points)
-            longer = (longer[0] + step,) + end
-    return length, found
+def least_ends(left):
+    """For each class, told by a short basis, its length and half of its least points: of each and its contrary one.
+
+    The class stands where its number tells: bit i of one more than the index is 1 if its points are odd at i.
+    """
+    size = len(left)
+    ends = [((), 0, 0)]
+    for at in reversed(range(size)):
+        line, scale = [left[by][at] for by in range(at, size)], left[at - 1][at - 1] if at > 0 else 1
+        sloped = [(end, sum_of_products(line[1:], end[0])) for end in ends]
+        bounds = bounds_at(line[0], scale, sloped, slack_at(left, at, scale))
+        ends = [more for end, slope in sloped for more in longer_ends(line[0], scale, slope, bounds, end)]
+    found = [(0, [])] * (1 << size)
+    # All that is left of a class are its least points.
+    for point, length, number in ends:
+        found[number] = (length, found[number][1] + [point])
+    return found[1:]
 
 
-def last_below(layer, odd, end):
-    """The last integer, odd or even as told, not above the fraction at which a point with this end is shortest."""
-    slope = sum([number * by for number, by in zip(layer[0][1:], end)])
-    return odd + 2 * ((-slope - odd * layer[0][0]) // (2 * layer[0][0]))
+def slack_at(left, at, scale):
+    """How much longer than the shortest end of a class an end may be so that its points can be least, times a scale."""
+    # Each integer put ahead can be chosen such that what it adds is no more than this.
+    before = [1] + [left[by][by] for by in range(at)]
+    return sum([-(-scale * before[by + 1] // before[by]) for by in range(at)])
+
+
+def bounds_at(first, scale, sloped, slack):
+    """For each class, as far as it is known with one integer more, how long its ends may be."""
+    bounds = {}
+    for (_, spent, number), slope in sloped:
+        for odd in (0, 1):
+            along = first * (odd + 2 * nearest(-slope - odd * first, 2 * first)) + slope
+            length, known = (scale * spent + along * along) // first + slack, 2 * number + odd
+            bounds[known] = min(length, bounds.get(known, length))
+    return bounds
+
+
+def longer_ends(first, scale, slope, bounds, end):
+    """The ways to put one integer more ahead of an end such that points with this end can still be least."""
+    point, spent, number = end
+    found = []
+    for odd in (0, 1):
+        room = first * bounds[2 * number + odd] - scale * spent
+        if room >= 0:
+            reach = isqrt(room)
+            low, high = -((reach + slope) // first), (reach - slope) // first
+            # Of a point and its contrary the one is asked for whose last integer other than 0 is above 0.
+            if not any(point):
+                low = max(low, 0)
+            for new in range(low + ((low ^ odd) & 1), high + 1, 2):
+                along = first * new + slope
+                found.append(((new,) + point, (scale * spent + along * along) // first, 2 * number + odd))
+    return found

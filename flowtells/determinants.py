@@ -35,37 +35,6 @@ def cleared(row, top, lead, before):
     return [(top[lead] * row[at] - row[lead] * top[at]) // before for at in range(len(row)) if at != lead]
 
 
-def beside_diagonal(rows):
-    """For n rows of n integers the n rows that, multiplied with them, have their determinant down the diagonal."""
-    spots = range(len(rows))
-    return [[signed(at + by, determinant_of(struck(rows, by, at))) for by in spots] for at in spots]
-
-
-def signed(times, number):
-    """A number when its sign has been changed so many times."""
-    return -number if times & 1 else number
-
-
-def struck(rows, at, by):
-    """The rows without the row at the one index and the column at the other one."""
-    return [row[:by] + row[by + 1:] for index, row in enumerate(rows) if index != at]
-
-
-def some_determinants(rows, before):
-    """The determinants, but for their signs, of any n of some rows of n integers; some that are 0 are left out.
-
-    The rows have been cleared by another one that began with before, or stand as they are, before being 1.
-    """
-    if not rows or len(rows[0]) == 1:
-        return [row[0] for row in rows if row[0] != 0]
-    found = []
-    for at, top in enumerate(rows):
-        lead = first_not_nought(top)
-        if lead is not None:
-            found.extend(some_determinants([cleared(row, top, lead, before) for row in rows[at + 1:]], top[lead]))
-    return found
-
-
 def seen_at(rows, others):
     """What rows are at independent points, as many as there are, at which all of these others are 0.
 

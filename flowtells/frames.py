@@ -1,8 +1,7 @@
 """The points of two tables that are alone, led to one another such that they share as much."""
 
-from flowtells.bases import first_independent, sum_of_products
+from flowtells.bases import by_first_basis, made_of, shares_of, unit_points
 from flowtells.rounds import alone
-from flowtells.rows import rows_with
 
 
 class Frame:
@@ -10,15 +9,14 @@ class Frame:
 
     def __init__(self, table):
         self.points = alone(table)
-        by_rows = [[sum_of_products(row, point) for row in table.rows] for point in self.points]
-        self.shares = [[sum_of_products(point, by) for by in by_rows] for point in self.points]
+        self.shares = shares_of(table.rows, self.points)
         self.kinds = [[row[at]] + sorted([abs(number) for number in row]) for at, row in enumerate(self.shares)]
 
     def chosen(self):
         """The numbers of independent points, as many as can be; of rare kinds, as far as there are such."""
         rare = sorted([(self.kinds.count(kind), at) for at, kind in enumerate(self.kinds)])
-        found = first_independent([self.points[at] for _, at in rare])
-        return [self.points.index(point) for point in found]
+        found, _, _ = by_first_basis([self.points[at] for _, at in rare])
+        return [rare[number][1] for number in found]
 
 
 def led(frame, goal):
@@ -66,5 +64,8 @@ def signed_point(points, end):
 
 def led_units(points, ends):
     """The points to which the unit points are led if independent ones are led to these; None if those are no points."""
-    columns = rows_with(points, list(zip(*ends)))
-    return list(zip(*columns)) if len(columns) == len(points) else None
+    _, worth, told = by_first_basis(points + unit_points(len(points)))
+    found = [made_of(ends, times) for times in told[len(points):]]
+    if any([number % worth for point in found for number in point]):
+        return None
+    return [[number // worth for number in point] for point in found]

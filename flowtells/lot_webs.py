@@ -1,6 +1,6 @@
 """The web of which the rows of a lot are the ties."""
 
-from flowtells.bases import first_independent
+from flowtells.bases import by_first_basis
 from flowtells.bonds import relations
 from flowtells.joins import names_in
 from flowtells.pieces import together
@@ -40,7 +40,7 @@ def places_of(lot, known, piece):
     mine = [relation for relation in known if used_by(relation)[0] in piece]
     if not mine:
         return []
-    independent = first_independent([lot.rows[number] for number in piece])
+    independent, _, _ = by_first_basis([lot.rows[number] for number in piece])
     return stars_of(mine, len(piece) - len(independent) + 1)
 
 

@@ -1,8 +1,10 @@
 """Lots: rows, each so many times, that make up a table by their squares."""
 
+from itertools import combinations
+
+from flowtells.bases import by_first_basis, small_sum
 from flowtells.checks import are_integers, is_within
 from flowtells.contraries import is_told_way, told_way
-from flowtells.determinants import some_determinants
 from flowtells.errors import BadLot
 from flowtells.flows import few_flows
 from flowtells.papers import fixed
@@ -19,8 +21,7 @@ class Lot:
             raise BadLot("rows")
         if not are_times(times, len(rows)):
             raise BadLot("times")
-        worths = some_determinants(fixed(rows), 1)
-        if not worths or max([abs(worth) for worth in worths]) > 1:
+        if not are_unimodular(rows):
             raise BadLot("determinant")
         pairs = sorted(zip(fixed(rows), times))
         self.size = len(rows[0])
@@ -50,6 +51,21 @@ def are_unlike_rows(value):
     if min(sizes) < max(sizes) or max(sizes) > min(MOST_ROWS, len(value)):
         return False
     return len(set(fixed(value))) == len(value)
+
+
+def are_unimodular(rows):
+    """Whether any n of some rows of n integers have the determinant 0, 1 or -1, and that of some n is not 0."""
+    numbers, worth, told = by_first_basis(fixed(rows))
+    if len(numbers) < len(rows[0]) or worth not in (1, -1):
+        return False
+    # Now the determinants are those that some integers of some of these rows make. They are 0, 1 and -1 alone exactly
+    # if any columns can be added, each or its contrary, such that only 0, 1 and -1 come (Ghouila-Houri).
+    columns = list(zip(*told))
+    for many in range(1, len(columns) + 1):
+        for first, *rest in combinations(columns, many):
+            if small_sum(first, rest) is None:
+                return False
+    return True
 
 
 def are_times(value, many):

@@ -1,8 +1,9 @@
 """A table in a basis in which no point becomes shorter when another one is taken off."""
 
-from flowtells.bases import nearest, short_basis, take_off
+from flowtells.bases import lessened, nearest, shares_of
 from flowtells.determinants import determinant_of
 from flowtells.papers import Paper
+from flowtells.short_bases import ShortBasis
 from flowtells.tables import Table, are_points, need_table
 
 
@@ -18,14 +19,23 @@ class Shortened(Paper):
 def shortened(table):
     """The Shortened of a table."""
     need_table(table, "table")
-    # The basis that short_basis finds is near the end already, so that few steps are left to take.
-    rows, points = short_basis(table.rows)
+    # This basis is near the end already, so that few steps are left to take.
+    points = ShortBasis(table.rows).points
+    rows = shares_of(table.rows, points)
     pair = first_too_near(rows)
     while pair is not None:
         at, by = pair
         take_off(rows, points, at, by, nearest(rows[at][by], rows[by][by]))
         pair = first_too_near(rows)
     return Shortened(Table(rows), points)
+
+
+def take_off(rows, points, at, by, times):
+    """Take from the point at one index so many times the one at another index, in the table's rows, too."""
+    points[at] = lessened(points[at], points[by], times)
+    rows[at] = lessened(rows[at], rows[by], times)
+    for row in rows:
+        row[at] -= times * row[by]
 
 
 def first_too_near(rows):

@@ -1,7 +1,7 @@
 """Stars: least relations of a piece of a lot that can be the ties at each place of a web."""
 
-from flowtells.bases import lessened, sum_of_products
-from flowtells.bonds import bits_of, many_bits
+from flowtells.bases import lessened, many_bits, sum_of_products
+from flowtells.bonds import bits_of
 
 
 def stars_of(known, many):

@@ -1,7 +1,8 @@
 """Tables: how much any two of a few points share."""
 
+from flowtells.bases import shares_of
 from flowtells.checks import are_integers
-from flowtells.determinants import determinant_of
+from flowtells.determinants import cleared, determinant_of
 from flowtells.errors import BadNumber, BadTable, BadText
 from flowtells.papers import fixed
 from flowtells.texts import items_of, number_at, read_colon, read_end
@@ -66,7 +67,7 @@ class Table:
             raise BadNumber("points")
         if determinant_of(points) not in (1, -1):
             raise BadNumber("determinant")
-        return Table([[shared(self.rows, one, other) for other in points] for one in points])
+        return Table(shares_of(self.rows, points))
 
 
 def need_table(value, part):
@@ -105,9 +106,16 @@ def is_same_both_ways(rows):
 
 
 def corners_of(rows):
-    """The determinants of the first row and column, of the first two, and so on."""
+    """The determinants of the first row and column, of the first two, and so on, to the first that is not above 0."""
     # Each point but noughts has a length above 0 exactly if all of these are above 0 (Sylvester).
-    return [determinant_of([row[:many] for row in rows[:many]]) for many in range(1, len(rows) + 1)]
+    found, left, before = [], rows, 1
+    while left:
+        top, *rest = left
+        found.append(top[0])
+        if top[0] <= 0:
+            return found
+        left, before = [cleared(row, top, 0, before) for row in rest], top[0]
+    return found
 
 
 def shared(rows, one, other):

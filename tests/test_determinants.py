@@ -4,7 +4,7 @@ import random
 import unittest
 from itertools import permutations, product
 
-from flowtells.determinants import beside_diagonal, determinant_of
+from flowtells.determinants import determinant_of
 from tests.helpers import GREAT, Case
 from tests.oracles import determinant
 
@@ -32,16 +32,6 @@ class Determinants(Case):
         for order in permutations(range(4)):
             rows = [[int(at == by) for by in range(4)] for at in order]
             self.same_kind(determinant_of(rows), determinant(rows))
-
-    def test_beside_the_diagonal(self):
-        source = random.Random(23)
-        for size in range(1, 6):
-            for _ in range(30):
-                rows = [[source.choice((0, 0, 1, -2, GREAT)) for _ in range(size)] for _ in range(size)]
-                turned = beside_diagonal(rows)
-                products = [[sum(a * b for a, b in zip(row, column)) for column in zip(*turned)] for row in rows]
-                worth = determinant(rows)
-                self.same_kind(products, [[worth if at == by else 0 for by in range(size)] for at in range(size)])
 
     def test_what_is_passed_stays(self):
         rows = [[0, 1], [2, 3]]
