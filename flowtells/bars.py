@@ -1,6 +1,6 @@
 """Whether a table is a lot's: its lot, or a bar."""
 
-from flowtells.bases import made_of, many_bits
+from flowtells.bases import made_of, many_bits, odd_bits
 from flowtells.classes import least_ends
 from flowtells.lots import Lot, sum_of_squares
 from flowtells.papers import Denial, Paper
@@ -35,7 +35,8 @@ def lot(table):
     below = [number for number, top in tops if top < 0]
     if below:
         return NoLot(bar_by(short, classes, below[0], 1))
-    rows, counted = {bits_of(row): row for row in small_at(classes)}, [(number, top) for number, top in tops if top > 0]
+    rows = {odd_bits(row): row for row in small_at(classes)}
+    counted = [(number, top) for number, top in tops if top > 0]
     for number, _ in counted:
         if number not in rows:
             return NoLot(bar_by(short, classes, number, -1))
@@ -51,8 +52,3 @@ def bar_by(short, classes, number, sign):
     points = [made_of(short.points, ends[0]) for _, ends in classes]
     signs = [sign if many_bits(number & kind) & 1 else -sign for kind in range(1, len(classes) + 1)]
     return sum_of_squares(points, signs)
-
-
-def bits_of(row):
-    """The number whose bits tell where a row is odd."""
-    return sum([(number & 1) << at for at, number in enumerate(row)])

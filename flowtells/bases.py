@@ -70,3 +70,8 @@ def small_sum(numbers, lists):
 def many_bits(number):
     """How many bits of a number are 1."""
     return f"{number:b}".count("1")
+
+
+def odd_bits(numbers):
+    """The number whose bits tell at which indices integers are odd."""
+    return sum([(number & 1) << at for at, number in enumerate(numbers)])

@@ -1,6 +1,6 @@
 """Relations of a lot: how its rows add up to noughts."""
 
-from flowtells.bases import by_first_basis, many_bits, small_sum
+from flowtells.bases import by_first_basis, many_bits, odd_bits, small_sum
 from flowtells.contraries import told_way
 from flowtells.lots import need_lot
 
@@ -10,8 +10,8 @@ def relations(lot):
     need_lot(lot, "lot")
     fresh = relations_by_basis(lot.rows)
     found = []
-    # Any n + 1 rows are dependent, so no least relation uses more.
-    for used in least_uses([bits_of(relation) for relation in fresh.values()], lot.size + 1):
+    # Any n + 1 rows are dependent, so no least relation uses more. It uses a row where it is odd.
+    for used in least_uses([odd_bits(relation) for relation in fresh.values()], lot.size + 1):
         first, *rest = [relation for number, relation in fresh.items() if used >> number & 1]
         found.append(told_way(small_sum(first, rest)))
     return tuple(sorted(found))
@@ -29,11 +29,6 @@ def relations_by_basis(rows):
                 relation[at] = worth * many
             found[number] = relation
     return found
-
-
-def bits_of(relation):
-    """The rows that a relation uses, as the bits of a number."""
-    return sum([1 << at for at, number in enumerate(relation) if number != 0])
 
 
 def least_uses(uses, most):

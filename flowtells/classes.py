@@ -35,30 +35,34 @@ def least_ends(left):
     """For each class, told by a short basis, its length and half of its least points: of each and its contrary one.
 
     The class stands where its number tells: bit i of one more than the index is 1 if its points are odd at i.
+
+    The points are put together from behind. Of an end are told its integers; how long it is where, by fractions, the
+    integers ahead are chosen such that it is shortest, times a scale; and of its class the bits that are known.
     """
     size = len(left)
     ends = [((), 0, 0)]
     for at in reversed(range(size)):
-        line, scale = [left[by][at] for by in range(at, size)], left[at - 1][at - 1] if at > 0 else 1
+        line = [left[by][at] for by in range(at, size)]
+        scale = left[at - 1][at - 1] if at > 0 else 1
         sloped = [(end, sum_of_products(line[1:], end[0])) for end in ends]
         bounds = bounds_at(line[0], scale, sloped, slack_at(left, at, scale))
         ends = [more for end, slope in sloped for more in longer_ends(line[0], scale, slope, bounds, end)]
     found = [(0, [])] * (1 << size)
-    # All that is left of a class are its least points.
+    # Of each class only least points are left.
     for point, length, number in ends:
         found[number] = (length, found[number][1] + [point])
     return found[1:]
 
 
 def slack_at(left, at, scale):
-    """How much longer than the shortest end of a class an end may be so that its points can be least, times a scale."""
-    # Each integer put ahead can be chosen such that what it adds is no more than this.
+    """How much longer than the shortest end of a class another one with least points can be, times a scale."""
+    # Each integer ahead can be chosen such that it adds no more than this.
     before = [1] + [left[by][by] for by in range(at)]
     return sum([-(-scale * before[by + 1] // before[by]) for by in range(at)])
 
 
 def bounds_at(first, scale, sloped, slack):
-    """For each class, as far as it is known with one integer more, how long its ends may be."""
+    """For each class, by the bits that are known with one integer more, how long its ends may be."""
     bounds = {}
     for (_, spent, number), slope in sloped:
         for odd in (0, 1):

@@ -1,7 +1,6 @@
 """Stars: least relations of a piece of a lot that can be the ties at each place of a web."""
 
-from flowtells.bases import lessened, many_bits, sum_of_products
-from flowtells.bonds import bits_of
+from flowtells.bases import lessened, many_bits, odd_bits, sum_of_products
 
 
 def stars_of(known, many):
@@ -10,7 +9,7 @@ def stars_of(known, many):
     Signs are put ahead of them such that each row is told once by 1 and once by -1. From the second one on each
     shares a row with some ahead of it, so they hang together.
     """
-    by_use = {bits_of(relation): relation for relation in known}
+    by_use = {odd_bits(relation): relation for relation in known}
     # The one relation of a piece that has no others is both its places.
     uses = sorted(by_use) * (2 if many == 2 else 1)
     every = 0
