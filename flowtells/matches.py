@@ -43,7 +43,7 @@ def put_on(one, other, goes, left):
         return goes
     tie, *rest = left
     for goal in other.ties:
-        if goal not in goes.values() and fits(one, other, goes, tie, goal):
+        if goal not in list(goes.values()) and fits(one, other, goes, tie, goal):
             found = put_on(one, other, {**goes, tie: goal}, rest)
             if found is not None:
                 return found
