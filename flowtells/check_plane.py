@@ -46,7 +46,8 @@ def are_called(web, paper):
     names = paper.names
     if not are_integers(names) or len(names) != web.places:
         return False
-    merged, spots = merged_places(web, paper.drawn), range(web.places)
+    merged = merged_places(web, paper.drawn)
+    spots = range(web.places)
     if any([(names[one] == names[other]) != (merged[one] == merged[other]) for one in spots for other in spots]):
         return False
     left = [pair for tie, pair in enumerate(web.ties) if tie not in paper.struck and tie not in paper.drawn]

@@ -19,6 +19,9 @@ STATEMENTS = (
 DOUBLE = {"__init__", "__eq__", "__str__", "__bool__"}
 BARRED = {"mro", "elements", "open", "input", "law", "register", "_wall", "eval", "exec", "compile", "id", "vars", "dir"}
 LIBRARY = {"heapq", "math", "itertools", "collections"}
+WALKS = {"range", "zip", "enumerate", "reversed"}
+VIEWS = {"items", "keys", "values"}
+WALKERS = {"list", "tuple", "sorted", "sum", "min", "max", "any", "all"}
 
 
 def files():
@@ -41,6 +44,101 @@ def stored(tree):
     """All names that are given a meaning within functions: parameters and targets."""
     names = [node.id for node in ast.walk(tree) if isinstance(node, ast.Name) and not isinstance(node.ctx, ast.Load)]
     return names + [node.arg for node in ast.walk(tree) if isinstance(node, ast.arg)]
+
+
+def parents(tree):
+    """Each part of a tree of code with the part that it stands in."""
+    return {part: node for node in ast.walk(tree) for part in ast.iter_child_nodes(node)}
+
+
+def called(node):
+    """The name of the builtin that a part of code calls, or None."""
+    return node.func.id if isinstance(node, ast.Call) and isinstance(node.func, ast.Name) else None
+
+
+def walk_of(node):
+    """The word of a range, zip, enumerate or reversed, or of a view of a dict, that a part of code makes, or None."""
+    if called(node) in WALKS:
+        return called(node)
+    is_view = isinstance(node, ast.Call) and isinstance(node.func, ast.Attribute) and node.func.attr in VIEWS
+    return node.func.attr if is_view else None
+
+
+def is_gone_through(node, within):
+    """Whether a part of code stands behind the in of a for or of a comprehension."""
+    return isinstance(within, (ast.For, ast.comprehension)) and within.iter is node
+
+
+def is_first_of(node, within, names):
+    """Whether a part of code is what a call of one of these builtins gets first; min and max get it alone."""
+    return (called(within) in names and within.args[:1] == [node]
+            and (called(within) not in ("min", "max") or len(within.args) == 1))
+
+
+def is_asked_for_a_member(node, within):
+    """Whether a part of code stands behind the in or the not in of a comparison of two."""
+    return (isinstance(within, ast.Compare) and len(within.ops) == 1 and within.comparators == [node]
+            and isinstance(within.ops[0], (ast.In, ast.NotIn)))
+
+
+def is_walked_on_the_spot(node, within):
+    """Whether what a part of code makes is iterated where it stands, as L23, Iterated at once, tells."""
+    word = walk_of(node)
+    if is_gone_through(node, within) or is_first_of(node, within, WALKERS | {"dict", "enumerate", "zip"}):
+        return True
+    if word in VIEWS | {"range"} and is_first_of(node, within, {"len"}):
+        return True
+    if word == "range" and is_first_of(node, within, {"reversed"}):
+        return True
+    if word in ("range", "keys") and is_asked_for_a_member(node, within):
+        return True
+    return (isinstance(within, ast.Call) and isinstance(within.func, ast.Attribute) and within.func.attr == "join"
+            and isinstance(within.func.value, ast.Constant) and within.args == [node])
+
+
+def is_read_as_a_range(node, above):
+    """Whether a kept range is used here as L23, Kept ranges, tells."""
+    within = above[node]
+    if is_gone_through(node, within) or is_asked_for_a_member(node, within):
+        return True
+    if is_first_of(node, within, WALKERS | {"len"}):
+        return True
+    if isinstance(within, ast.Subscript):
+        return within.value is node and isinstance(within.ctx, ast.Load) and not isinstance(within.slice, ast.Slice)
+    is_with_others = called(within) in WALKS - {"range"} and node in within.args
+    return is_with_others and is_walked_on_the_spot(within, above[within])
+
+
+def is_named_in(tree, name):
+    """Whether a name stands anywhere in a tree of code."""
+    return any(isinstance(part, ast.Name) and part.id == name for part in ast.walk(tree))
+
+
+def is_kept_rightly(node, above):
+    """Whether a part of code is a range, alone behind a plain variable of a function that is assigned once and only
+    used as it may be. L23 lets zips and views be kept, too; the package keeps none."""
+    line = scope = above[node]
+    while not isinstance(scope, (ast.FunctionDef, ast.Module)):
+        scope = above[scope]
+    if walk_of(node) != "range" or not isinstance(line, ast.Assign) or not isinstance(scope, ast.FunctionDef):
+        return False
+    if len(line.targets) > 1 or not isinstance(line.targets[0], ast.Name):
+        return False
+    name = line.targets[0].id
+    inner = [part for part in ast.walk(scope) if part is not scope and isinstance(
+        part, (ast.FunctionDef, ast.Lambda, ast.GeneratorExp))]
+    if stored(scope).count(name) > 1 or any(is_named_in(part, name) for part in inner):
+        return False
+    reads = [part for part in ast.walk(scope) if isinstance(part, ast.Name) and part.id == name]
+    return all(is_read_as_a_range(part, above) for part in reads if isinstance(part.ctx, ast.Load))
+
+
+def walks_kept(tree):
+    """The lines of a file on which something is made to be walked and is kept otherwise than L23 lets it be."""
+    above = parents(tree)
+    walks = [node for node in ast.walk(tree) if walk_of(node)]
+    return [node.lineno for node in walks
+            if not is_walked_on_the_spot(node, above[node]) and not is_kept_rightly(node, above)]
 
 
 class Files(unittest.TestCase):
@@ -132,6 +230,63 @@ class Names(unittest.TestCase):
         known = {node.attr for node in attributes if isinstance(node.ctx, ast.Store)} | METHODS
         known |= {node.name for _, tree in trees() for node in ast.walk(tree) if isinstance(node, ast.FunctionDef)}
         self.assertEqual([node.attr for node in attributes if node.attr not in known], [])
+
+
+class Walks(unittest.TestCase):
+
+    def kept(self, *lines):
+        return walks_kept(ast.parse("def f(xs, d, paper):\n" + "".join(f"    {line}\n" for line in lines)))
+
+    def test_the_package(self):
+        for path, tree in trees():
+            self.assertEqual(walks_kept(tree), [], path)
+
+    def test_on_the_spot(self):
+        for line in (
+                "for k in range(3): pass", "return [a for a, b in zip(xs, xs)]", "return {k: v for k, v in d.items()}",
+                "return list(range(3))", "return tuple(reversed(xs))", "return sorted(d.values())",
+                "return dict(zip(xs, xs))", "return max(d.values())", "return min(d.values(), default=0)",
+                "return list(enumerate(zip(*xs), start=1))", "return list(reversed(range(3)))",
+                "return [k for k in reversed(range(3))]", "return 3 in range(4)", "return 3 not in d.keys()",
+                "return len(d.items()) + len(range(3))", "return ' '.join(d.keys())"):
+            self.assertEqual(self.kept(line), [], line)
+
+    def test_not_on_the_spot(self):
+        for line in (
+                "return range(3)", "return [range(3)]", "return xs, zip(xs, xs)", "paper.spots = range(3)",
+                "return set(d.values())", "return max(d.values(), xs)", "return d.values() == xs",
+                "return len(zip(xs))", "return xs in d.values()", "return reversed(range(3))",
+                "return list(reversed(d.items()))", "return f(range(3), d, xs)", "a, b = range(2)",
+                "a, *b = zip(xs, xs)", "return paper.join(d.keys())",
+                "pairs = zip(xs, xs)", "view = d.items()", "back = reversed(xs)", "return range(3) or xs"):
+            self.assertEqual(self.kept(line), [2], line)
+
+    def test_ranges_kept(self):
+        for line in (
+                "return [one + other for one in spots for other in spots]", "for k in spots: xs.append(k)",
+                "return sorted(spots) + list(spots)", "return len(spots) + max(spots)", "return 3 in spots",
+                "return spots[0]", "return list(zip(xs, spots))", "return [k for k in reversed(spots)]",
+                "return [[d[k] for k in spots] for _ in spots]"):
+            self.assertEqual(self.kept("spots = range(3)", line), [], line)
+
+    def test_ranges_kept_wrongly(self):
+        for line in (
+                "return spots", "return spots[1:]", "return f(spots, d, xs)", "xs.append(spots)", "paper.spots = spots",
+                "return spots == xs", "return [spots]", "if spots: return 1", "return set(spots)", "spots = xs",
+                "for spots in xs: pass", "return [spots for spots in xs]", "return sum(k for k in spots)",
+                "return lambda: [k for k in spots]", "pairs = list(enumerate([spots]))", "return d[spots]"):
+            self.assertEqual(self.kept("spots = range(3)", line), [2], line)
+        self.assertEqual(self.kept("spots = range(3)", "pairs = zip(xs, spots)"), [2, 3])
+        self.assertEqual(self.kept("spots: object = range(3)", "return list(spots)"), [2])
+        self.assertEqual(self.kept("xs = range(3)", "return list(xs)"), [2])
+
+    def test_several_targets(self):
+        read = "return [one + other for one in spots for other in spots]"
+        for line in (
+                "merged, spots = f(xs, d, paper), range(3)", "spots, merged = range(3), xs", "(spots,) = (range(3),)",
+                "[spots, merged] = [range(3), xs]", "merged = spots = range(3)"):
+            self.assertEqual(self.kept(line, read), [2], line)
+        self.assertEqual(self.kept("merged = f(xs, d, paper)", "spots = range(3)", read), [])
 
 
 class Code(unittest.TestCase):
